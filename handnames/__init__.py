@@ -1,0 +1,1 @@
+"""Handnames: small names for hands that share boxes alone, whatever the weaving."""
