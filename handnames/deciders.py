@@ -1,7 +1,7 @@
 """Deciders: a mark and a shutter that hands share; of those that come at most one holds it."""
 
 from handnames.errors import NoStep
-from handnames.plain import is_row, is_whole, with_at
+from handnames.plain import is_tuple_of, is_whole, with_at
 
 WORDS = ("out", "ask", "close", "look", "holds", "right", "down")
 ENDED = ("holds", "right", "down")
@@ -14,7 +14,7 @@ def first_decider(many):
 
 def is_decider(many, thing):
     """Whether any thing is a STAND of so many hands, come to or not."""
-    if not is_row(thing, 3):
+    if not is_tuple_of(thing, 3):
         return False
     mark, closed, words = thing
     return is_mark(many, mark) and isinstance(closed, bool) and are_words_of(many, words)
@@ -27,7 +27,7 @@ def is_mark(many, thing):
 
 def are_words_of(many, thing):
     """Whether any thing tells one of the WORDS for each of so many hands."""
-    return is_row(thing, many) and all([word in WORDS for word in thing])
+    return is_tuple_of(thing, many) and all([word in WORDS for word in thing])
 
 
 def step_decider(stand, hand):

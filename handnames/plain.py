@@ -6,7 +6,12 @@ def is_whole(thing):
     return isinstance(thing, int) and not isinstance(thing, bool)
 
 
-def is_row(thing, many):
+def is_within(thing, least, most):
+    """Whether any thing is a whole number of these bounds, themselves among them."""
+    return is_whole(thing) and least <= thing <= most
+
+
+def is_tuple_of(thing, many):
     """Whether any thing is a tuple of so many."""
     return isinstance(thing, tuple) and len(thing) == many
 
@@ -14,3 +19,8 @@ def is_row(thing, many):
 def with_at(row, at, thing):
     """The tuple with another thing at a place."""
     return row[:at] + (thing,) + row[at + 1:]
+
+
+def triangle(many):
+    """The sum of the numbers from 1 to this one."""
+    return many * (many + 1) // 2

@@ -1,7 +1,7 @@
 """Sentences about the stands of a decider: what is one, and where one is so."""
 
 from handnames.deciders import WORDS
-from handnames.plain import is_row, is_whole
+from handnames.plain import is_tuple_of, is_whole
 
 MOST_FORMULAS = 20
 MOST_WITHIN = 8
@@ -16,7 +16,7 @@ PARTS = {"at": 3, "mark": 2, "free": 1, "closed": 1, "not": 2, "both": 3, "eithe
 def is_sentence(thing):
     """Whether any thing is a SENTENCE."""
     # Only a text is looked up: a list can be no key.
-    if not is_row(thing, 2) or not isinstance(thing[0], str) or thing[0] not in HANDS:
+    if not is_tuple_of(thing, 2) or not isinstance(thing[0], str) or thing[0] not in HANDS:
         return False
     return is_formula(thing[1], HANDS[thing[0]])
 

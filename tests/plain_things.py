@@ -2,6 +2,8 @@
 
 import itertools
 
+from handnames.errors import HandError
+
 WORDS = ("out", "ask", "close", "look", "holds", "right", "down")
 
 
@@ -40,3 +42,23 @@ def every_stand(many):
 def assert_same(case, one, other):
     """Alike in kind as well, all through: a truth is no number, a list no tuple."""
     case.assertEqual(repr(one), repr(other))
+
+
+def assert_told(case, expected, ask, *arguments):
+    """The answer is just this one, and what was handed in stays as it was."""
+    before = repr(arguments)
+    assert_same(case, ask(*arguments), expected)
+    case.assertEqual(repr(arguments), before)
+
+
+def assert_refused(case, refusal, ask, *arguments):
+    """It is refused with just this refusal, kept fields and all, and what was handed in stays as it was."""
+    before = repr(arguments)
+    try:
+        answer = ask(*arguments)
+    except HandError as caught:
+        case.assertIs(type(caught), type(refusal), before[:300])
+        case.assertEqual(repr(vars(caught)), repr(vars(refusal)), before[:300])
+    else:
+        case.fail(f"{before[:300]} is not refused: {repr(answer)[:100]}")
+    case.assertEqual(repr(arguments), before)

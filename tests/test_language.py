@@ -1,4 +1,4 @@
-"""The package keeps to the rules of LANGUAGE.md that can be seen in one file at a time."""
+"""The package keeps to the rules of LANGUAGE.md, as far as its own code comes near to breaking them."""
 
 import ast
 import builtins
@@ -21,6 +21,12 @@ BUILTINS = """
     len range enumerate zip min max sum abs sorted reversed int str bool bytes list tuple dict set frozenset
     isinstance ord repr any all divmod Exception ValueError TypeError KeyError IndexError LookupError
     ZeroDivisionError ArithmeticError OverflowError RuntimeError NotImplementedError AttributeError StopIteration
+""".split()
+# The first list of L25: the package has no use for the others.
+VALUE_METHODS = """
+    append clear copy count endswith extend find get index insert isalnum isalpha isdigit islower isspace isupper
+    items join keys ljust lower lstrip partition pop remove replace reverse rfind rjust rpartition rsplit rstrip
+    setdefault split splitlines startswith strip update upper values zfill bit_length
 """.split()
 METHODS = ["__init__", "__eq__", "__repr__", "__str__", "__len__"]
 BARRED_NAMES = """
@@ -47,6 +53,17 @@ def bound_names(tree):
             yield node.asname or node.name
         elif isinstance(node, ast.ExceptHandler) and node.name:
             yield node.name
+
+
+def defined_names(tree):
+    """The names that the file itself defines at module level."""
+    names = [node.name for node in tree.body if isinstance(node, (ast.FunctionDef, ast.ClassDef))]
+    return names + [target.id for node in tree.body if isinstance(node, ast.Assign) for target in node.targets]
+
+
+def imported_names(tree):
+    """The names that the file imports."""
+    return [name.asname or name.name for node in tree.body if isinstance(node, ast.ImportFrom) for name in node.names]
 
 
 class Language(unittest.TestCase):
@@ -133,6 +150,66 @@ class Language(unittest.TestCase):
             self.assertNotIsInstance(node.value, (float, complex), path.name)
             if isinstance(node.value, str):
                 self.assertNotIn("%", node.value, path.name)
+
+    def test_imports_name_the_file_that_defines_the_name_and_are_used(self):
+        trees = {"handnames." + path.stem: tree for path, text, tree in self.each()}
+        for path, text, tree in self.each():
+            used = {node.id for node in ast.walk(tree) if isinstance(node, ast.Name)}
+            for node in tree.body:
+                if isinstance(node, ast.ImportFrom):
+                    for name in node.names:
+                        self.assertIn(name.name, defined_names(trees[node.module]), path.name)
+                        self.assertIn(name.asname or name.name, used, path.name)
+
+    def test_no_two_files_import_from_each_other(self):
+        ahead = {"handnames." + path.stem: {node.module for node in tree.body if isinstance(node, ast.ImportFrom)}
+                 for path, text, tree in self.each()}
+        while ahead:
+            free = [name for name in ahead if not ahead[name] & set(ahead)]
+            self.assertNotEqual(free, [], ahead)
+            ahead = {name: ahead[name] for name in ahead if name not in free}
+
+    def test_each_name_is_bound_once_at_module_level(self):
+        for path, text, tree in self.each():
+            names = defined_names(tree) + imported_names(tree)
+            self.assertEqual(sorted(names), sorted(set(names)), path.name)
+
+    def test_no_local_has_the_name_of_an_import_or_of_what_the_file_defines(self):
+        for path, text, tree in self.each():
+            barred = set(defined_names(tree) + imported_names(tree))
+            for function in [node for node in ast.walk(tree) if isinstance(node, ast.FunctionDef)]:
+                for part in function.body + [function.args]:
+                    self.assertEqual(set(bound_names(part)) & barred, set(), (path.name, function.name))
+
+    def test_methods_of_values(self):
+        for path, node in self.nodes(ast.Call):
+            if isinstance(node.func, ast.Attribute):
+                self.assertIn(node.func.attr, VALUE_METHODS + ["__init__"], path.name)
+                if node.func.attr != "__init__":
+                    self.assertEqual(node.keywords, [], path.name)
+
+    def test_sets_stand_in_len_and_sorted_alone(self):
+        for path, text, tree in self.each():
+            allowed = []
+            for node in ast.walk(tree):
+                self.assertNotIsInstance(node, (ast.Set, ast.SetComp), path.name)
+                if isinstance(node, ast.Call) and isinstance(node.func, ast.Name):
+                    if node.func.id in ("len", "sorted"):
+                        allowed += node.args
+                    if node.func.id in ("set", "frozenset"):
+                        self.assertIn(node, allowed, path.name)
+
+    def test_what_is_iterated_at_once_is_not_stored(self):
+        for path, node in self.nodes(ast.Assign, ast.Return):
+            if isinstance(node.value, ast.Call):
+                made_by = getattr(node.value.func, "id", getattr(node.value.func, "attr", None))
+                barred = ("zip", "enumerate", "reversed", "range", "items", "keys", "values")
+                self.assertNotIn(made_by, barred, path.name)
+
+    def test_raise_makes_its_error_on_the_spot(self):
+        for path, node in self.nodes(ast.Raise):
+            self.assertIsInstance(node.exc, ast.Call, path.name)
+            self.assertIsInstance(node.exc.func, ast.Name, path.name)
 
     def test_is_stands_beside_none_true_and_false_alone(self):
         for path, node in self.nodes(ast.Compare):
