@@ -2,6 +2,8 @@
 
 import itertools
 
+from plain_things import found_from
+
 
 def heres(many, hand):
     """All that a hand may be at."""
@@ -91,14 +93,4 @@ def drawn_let(chance, many):
 
 def found_stands(many):
     """All stands to which some weaving leads from the first one."""
-    start = boxed([("out",)] * many)
-    found = {start}
-    waiting = [start]
-    while waiting:
-        stand = waiting.pop()
-        for hand in range(many):
-            new = behind(stand, hand)
-            if new is not None and new not in found:
-                found.add(new)
-                waiting.append(new)
-    return found
+    return found_from(boxed([("out",)] * many), many, behind)

@@ -1,7 +1,9 @@
-"""A net told once more, not in the program's own way: walks of cells, boxes that are changed, faults by sets of words."""
+"""A net told once more, not in the program's own way: walks of cells, boxes that are changed, sets of words."""
 
 import functools
 import itertools
+
+from plain_things import found_from
 
 HERE = ("out", "ask", "close", "look", "holds")
 WAYS = ("right", "down")
@@ -149,13 +151,4 @@ def drawn_let(chance, size, many):
 def found_stands(size, many):
     """All stands to which some weaving leads from the first one."""
     start = (((None, False),) * len(cells(size)), (((), "out"),) * many)
-    found = {start}
-    waiting = [start]
-    while waiting:
-        stand = waiting.pop()
-        for hand in range(many):
-            new = behind(size, stand, hand)
-            if new is not None and new not in found:
-                found.add(new)
-                waiting.append(new)
-    return found
+    return found_from(start, many, lambda stand, hand: behind(size, stand, hand))

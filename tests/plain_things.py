@@ -39,6 +39,20 @@ def every_stand(many):
     return [tuple(row) for row in rows]
 
 
+def found_from(start, many, behind):
+    """All stands to which some weaving leads, by a function that tells the stand behind a hand's step, or None."""
+    found = {start}
+    waiting = [start]
+    while waiting:
+        stand = waiting.pop()
+        for hand in range(many):
+            new = behind(stand, hand)
+            if new is not None and new not in found:
+                found.add(new)
+                waiting.append(new)
+    return found
+
+
 def assert_same(case, one, other):
     """Alike in kind as well, all through: a truth is no number, a list no tuple."""
     case.assertEqual(repr(one), repr(other))
