@@ -2,7 +2,7 @@
 
 from handnames.errors import NoStand
 from handnames.levels import hands_up_to
-from handnames.plain import is_tuple_of, is_within
+from handnames.plain import are_rising_hands, is_tuple_of, is_within
 
 
 def lets_levels(many, thing):
@@ -41,17 +41,10 @@ def is_hand_here(many, hand, thing):
     if not is_tuple_of(thing, 2):
         return False
     if thing[0] == "holds":
-        return is_view(many, thing[1]) and hand in thing[1]
+        return are_rising_hands(many, thing[1]) and hand in thing[1]
     if thing[0] == "put":
         return is_within(thing[1], 1, many - 1)
     return thing[0] == "look" and is_within(thing[1], 1, many)
-
-
-def is_view(many, thing):
-    """Whether any thing is a rising tuple of some of so many hands."""
-    if not isinstance(thing, tuple) or not all([is_within(hand, 0, many - 1) for hand in thing]):
-        return False
-    return list(thing) == sorted(set(thing))
 
 
 def box_due(here):

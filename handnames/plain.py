@@ -11,9 +11,21 @@ def is_within(thing, least, most):
     return is_whole(thing) and least <= thing <= most
 
 
+def is_one_of(thing, numbers):
+    """Whether any thing is one of these whole numbers."""
+    return is_whole(thing) and thing in numbers
+
+
 def is_tuple_of(thing, many):
     """Whether any thing is a tuple of so many."""
     return isinstance(thing, tuple) and len(thing) == many
+
+
+def are_rising_hands(many, thing):
+    """Whether any thing is a rising tuple of some of so many hands."""
+    if not isinstance(thing, tuple) or not all([is_within(hand, 0, many - 1) for hand in thing]):
+        return False
+    return list(thing) == sorted(set(thing))
 
 
 def with_at(row, at, thing):

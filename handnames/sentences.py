@@ -1,7 +1,7 @@
 """Sentences about the stands of a decider: what is one, and where one is so."""
 
 from handnames.deciders import WORDS
-from handnames.plain import is_tuple_of, is_whole
+from handnames.plain import is_one_of, is_tuple_of
 
 MOST_FORMULAS = 20
 MOST_WITHIN = 8
@@ -42,18 +42,13 @@ def is_built(thing, hands):
     if PARTS.get(word) != len(thing):
         return False
     if word == "at":
-        return is_hand(thing[1], hands) and are_words(thing[2])
-    return word != "mark" or is_hand(thing[1], hands)
+        return is_one_of(thing[1], hands) and are_words(thing[2])
+    return word != "mark" or is_one_of(thing[1], hands)
 
 
 def formulas_in(formula):
     """What stands where FORMULAS should stand right in a thing that is made as one."""
     return formula[1:] if formula[0] in ("not", "both", "either") else ()
-
-
-def is_hand(thing, hands):
-    """Whether any thing is one of these of 0 and 1."""
-    return is_whole(thing) and thing in hands
 
 
 def are_words(thing):
