@@ -12,7 +12,8 @@ def reached(machine):
     found = {stands[0]: True}
     at = 0
     while at < len(stands):
-        for behind in next_stands(machine, stands[at]):
+        here = stands[at]
+        for behind in next_stands(machine, here):
             if behind not in found:
                 found[behind] = True
                 stands.append(behind)

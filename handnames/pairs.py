@@ -1,10 +1,10 @@
 """Papers of pairs: for each two TYPES of one round two hands that have them at once, so that no name serves both."""
 
 from handnames.errors import NoPaper
-from handnames.looks import are_rounds, hands_of_round, view_of
+from handnames.looks import are_rounds, hands_of_round
 from handnames.machines import are_greats
 from handnames.plain import is_one_of, is_tuple_of
-from handnames.types import name_by, one_round_types, type_of
+from handnames.types import name_by, one_round_types, type_at
 
 MOST_ENTRIES = 100
 
@@ -44,7 +44,7 @@ def is_entry(many, thing):
 def types_of(entry):
     """The TYPES of the two hands of an entry."""
     greats, rounds, one, other = entry
-    return (type_of(greats, view_of(rounds, one)), type_of(greats, view_of(rounds, other)))
+    return (type_at(greats, rounds, one), type_at(greats, rounds, other))
 
 
 def pairs_among(listed):

@@ -33,9 +33,14 @@ def seen_by_place(many):
     return tuple([(place, ()) for place in range(many)])
 
 
+def type_at(greats, rounds, hand):
+    """What type_of tells of the VIEW of a hand of the last of the ROUNDS."""
+    return type_of(greats, view_of(rounds, hand))
+
+
 def name_by(way, greats, rounds, hand):
     """The NAME that the WAY has for a hand of the last of the ROUNDS, or NoType."""
-    type_here = type_of(greats, view_of(rounds, hand))
+    type_here = type_at(greats, rounds, hand)
     if type_here not in way:
         raise NoType(type_here)
     return way[type_here]
